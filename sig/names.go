@@ -72,6 +72,19 @@ func (n names) named(x api.TypeX) (api.Type, api.Diag) {
 	return api.Type{Kind: api.KNamed, Pkg: strings.Clone(p.name), Name: strings.Clone(x.Name)}, api.Diag{}
 }
 
+// declared is what a type is declared to be. A package that imports its own name may declare what the import does: it is one type, and what it declares itself counts first.
+func (n names) declared(t api.Type) (api.TypeDecl, bool) {
+	for _, p := range []*pack{n.own, n.others[t.Pkg]} {
+		if t.Kind != api.KNamed || p == nil || p.name != t.Pkg {
+			continue
+		}
+		if at, is := p.find(t.Name); is {
+			return p.types[at], true
+		}
+	}
+	return api.TypeDecl{}, false
+}
+
 // pack is the package that what stands ahead of a type's name means; nil if it is not available.
 func (n names) pack(name string) *pack {
 	if name == "" {

@@ -156,14 +156,11 @@ func (m *model) params(names []string, l []api.Param) []api.Type {
 	return types
 }
 
-// ownStruct is the declared struct that a type names without a package; nil if there is none.
-func (m *model) ownStruct(x api.TypeX) *api.TypeDecl {
-	for i, t := range m.shown.Types {
-		if x.Kind == 4 && x.Pkg == "" && x.Name == t.Name && t.Struct {
-			return &m.shown.Types[i]
-		}
-	}
-	return nil
+// ownStruct is the index of the declared struct that a type is; -1 if there is none.
+func (m *model) ownStruct(t api.Type) int {
+	return slices.IndexFunc(m.shown.Types, func(d api.TypeDecl) bool {
+		return t.Kind == 4 && t.Pkg == m.f.Name && t.Name == d.Name && d.Struct
+	})
 }
 
 func (m *model) bounds(l []api.Param) ([]string, []api.Type) {
@@ -178,7 +175,7 @@ func (m *model) bounds(l []api.Param) ([]string, []api.Type) {
 			m.add(p.At, 9)
 		default:
 			t := m.typed(nil, p.T)
-			if t.Kind != 0 && !m.asks(p.T) {
+			if t.Kind != 0 && !m.asks(t) {
 				m.add(p.T.At, 15)
 				t = api.Type{}
 			}
@@ -188,23 +185,29 @@ func (m *model) bounds(l []api.Param) ([]string, []api.Type) {
 	return names, bounds
 }
 
-// asks tells whether a type names an interface.
-func (m *model) asks(x api.TypeX) bool {
-	for i, p := range m.w {
-		if x.Kind == 4 && (i == 0) == (x.Pkg == "") && (i == 0 || x.Pkg == p.Pkg) {
-			at := slices.IndexFunc(p.Types, func(t api.TypeDecl) bool { return t.Name == x.Name })
-			return at >= 0 && !p.Types[at].Struct
+// asks tells whether a type is an interface: by the first declaration of its name in the packages of its package's name.
+func (m *model) asks(t api.Type) bool {
+	for _, p := range m.w {
+		for _, d := range p.Types {
+			if t.Kind == 4 && t.Pkg == p.Pkg && t.Name == d.Name {
+				return !d.Struct
+			}
 		}
 	}
 	return false
 }
 
 func (m *model) method(d api.Decl) {
-	t := m.ownStruct(d.Recv.T)
-	switch {
-	case t == nil:
+	at := -1
+	if x := d.Recv.T; x.Kind == 4 && x.Pkg == "" {
+		at = m.ownStruct(named(m.f.Name, x.Name))
+	}
+	if at < 0 {
 		m.add(d.Recv.T.At, 17)
 		return
+	}
+	t := &m.shown.Types[at]
+	switch {
 	case slices.ContainsFunc(t.Fields, func(f api.Field) bool { return f.Name == d.Name }), slices.ContainsFunc(t.Methods, func(o api.Method) bool { return o.Name == d.Name }):
 		m.add(d.At, 9)
 		return
@@ -248,12 +251,11 @@ func (m *model) held(d api.Decl) (fields []api.Field, methods []api.Method) {
 func (m *model) endless(decls []api.Decl) {
 	n := len(decls)
 	leads := make([][]bool, n)
-	for i, d := range decls {
+	for i, d := range m.shown.Types {
 		leads[i] = make([]bool, n)
-		for k, p := range d.Fields {
-			twice := slices.ContainsFunc(d.Fields[:k], func(q api.Param) bool { return q.Name == p.Name })
-			if t := m.ownStruct(p.T); t != nil && d.Kind == 1 && !twice {
-				leads[i][slices.IndexFunc(decls, func(e api.Decl) bool { return e.Name == t.Name })] = true
+		for _, f := range d.Fields {
+			if at := m.ownStruct(f.T); at >= 0 {
+				leads[i][at] = true
 			}
 		}
 	}
@@ -842,11 +844,28 @@ func TestBoundKinds(t *testing.T) {
 	wantBuild(t, "package a;type I interface{}func f[P I,@9@P U,Q I,@9@Q S,@9@P []U](x P,y Q)Q{}", "a: interface I{} func f[a.I,a.I](P'0,Q'1)Q'1")
 	wantBuild(t, "package a;type I interface{}type @9@I struct{}type S struct{}type @9@S interface{}func f[P I,Q @15@S](){}", "a: interface I{} struct S{} func f[a.I,?]()none")
 	wantBuild(t, "package a;import a;func f[P a.I](p P){}type I interface{}", "a: interface I{} func f[?](P'0)none")
+	own := pack("a", "S", "(I)", "(J)", "T", "(K)", "L")
+	for bound, want := range map[string]string{
+		"a.I": "a.I", "@15@a.S": "?", "a.J": "a.J", "@15@a.T": "?", "@15@a.K": "?", "a.L": "a.L", "@10@a.M": "?", "@10@a.N": "?", "@15@[]a.I": "?", "@10@J": "?", "M": "a.M", "@15@N": "?",
+	} {
+		const types = "type I interface{}type S struct{}type K struct{}type L interface{}type M interface{}type N struct{}"
+		wantBuild(t, "package a;import a;"+types+"func f[P "+bound+"](){}", "a: interface I{} struct S{} struct K{} interface L{} interface M{} struct N{} func f["+want+"]()none", pack("b", "I"), own, pack("a", "(T)", "(M)"))
+	}
 	for _, x := range []api.TypeX{{Kind: 5, At: 9}, {Kind: 2, At: 9, Name: "I"}, {Kind: 5, At: 9, Name: "I"}} {
 		wantFile(t, api.File{Name: "a", Decls: []api.Decl{{Kind: 2, Name: "I"}, {Kind: 3, Name: "f", Bounds: []api.Param{{Name: "P", At: 7, T: x}}}}}, "a: interface I{} func f[?]()none", api.Diag{At: 9, Code: 15})
 	}
 	for _, kind := range unknown() {
 		wantFile(t, api.File{Name: "a", Decls: []api.Decl{{Kind: 2, Name: "I"}, {Kind: 3, Name: "f", Bounds: []api.Param{{Name: "P", At: 7, T: api.TypeX{Kind: kind, At: 9, Name: "I"}}}}}}, "a: interface I{} func f[?]()none")
+	}
+	// A package without a name, with an interface without one: only a name means it.
+	for kind, want := range []string{"", "?", "?", "?", ".", "?"} {
+		var wrong []api.Diag
+		if want == "?" {
+			wrong = []api.Diag{{At: 9, Code: 15}}
+		}
+		if kind > 0 {
+			wantFile(t, api.File{Decls: []api.Decl{{Kind: 2}, {Kind: 3, Name: "f", Bounds: []api.Param{{Name: "P", T: xKind(kind, 9)}}}}}, ": interface {} func f["+want+"]()none", wrong...)
+		}
 	}
 }
 
@@ -942,6 +961,33 @@ func TestEndless(t *testing.T) {
 	} {
 		wantBuild(t, "package a;import a;import b;import c;"+text, "a: "+want, b)
 	}
+	own := pack("a", "T", "U", "(I)", "J", "(S)")
+	for text, want := range map[string]string{
+		"type @18@T struct{t a.T;}":                                "struct T{t a.T;}",
+		"type U struct{}type @18@T struct{t U;u a.T;}":             "struct U{} struct T{t a.U;u a.T;}",
+		"type @18@T struct{u a.U;}type @18@U struct{t a.T;}":       "struct T{u a.U;} struct U{t a.T;}",
+		"type @18@T struct{u U;}type @18@U struct{t a.T;}":         "struct T{u a.U;} struct U{t a.T;}",
+		"type @18@T struct{x U;t a.T;y T;}type U struct{t []a.T;}": "struct T{x a.U;t a.T;y a.T;} struct U{t []a.T;}",
+		"type T struct{t []a.T;}":                                  "struct T{t []a.T;}",
+		"type T struct{x int;@9@x a.T;}":                           "struct T{x int;}",
+		"type T struct{u a.U;v b.T;}":                              "struct T{u a.U;v b.T;}",
+		"type V struct{v @10@a.V;}":                                "struct V{v ?;}",
+		"type T struct{i a.I;}type I interface{m(a.T)T;}":          "struct T{i a.I;} interface I{m(a.T)a.T;}",
+		"type J interface{m();}type T struct{j a.J;}":              "interface J{m()none;} struct T{j a.J;}",
+		"type @18@S struct{s a.S;}":                                "struct S{s a.S;}",
+		"type T struct{}func(t @17@a.T)m(){}":                      "struct T{}",
+		"type T struct{t T2;}type T2 struct{u a.U;}":               "struct T{t a.T2;} struct T2{u a.U;}",
+	} {
+		wantBuild(t, "package a;import a;import b;"+text, "a: "+want, b, own, pack("a", "V"))
+	}
+	// A struct without a name, in a package without one: only a name means it.
+	for kind, want := range []string{"?", "int", "bool", "text", ".", "[]?"} {
+		var wrong []api.Diag
+		if kind == 4 {
+			wrong = []api.Diag{{At: 5, Code: 18}}
+		}
+		wantFile(t, api.File{Decls: []api.Decl{{Kind: 1, At: 5, Fields: []api.Param{{Name: "x", T: xKind(kind, 9)}}}}}, ": struct {x "+want+";}", wrong...)
+	}
 	same := api.Decl{Kind: 1, At: 5, Fields: []api.Param{{T: xName(0, "", "T")}}}
 	one, two := same, same
 	one.Name, two.Name, two.Fields = "T", "U", []api.Param{{T: xName(0, "", "U")}}
@@ -978,11 +1024,21 @@ func TestWebs(t *testing.T) {
 	for range 1500 {
 		n := 2 + d.below(20)
 		f := webbed(n, func(_, _ int) bool { return d.below(n*4) < 5 })
-		_, wrong := against(t, f, nil)
+		shown, wrong := against(t, f, nil)
 		if len(wrong) > 0 && len(wrong) < n {
 			some++
 		} else if len(wrong) == 0 {
 			none++
+		}
+		// A text that names some of them by the package's own name, which it imports, means the same.
+		f.Imports = []api.Import{{Name: "a"}}
+		for i := range f.Decls {
+			for k := range f.Decls[i].Fields {
+				f.Decls[i].Fields[k].T.Pkg = d.of("", "a")
+			}
+		}
+		if again, l := against(t, f, []api.Iface{shown}); spell(again) != spell(shown) || !slices.Equal(l, wrong) {
+			t.Fatalf("%s: %s, %v; was %s, %v", told(f), spell(again), l, spell(shown), wrong)
 		}
 	}
 	if some < 300 || none < 50 {
@@ -1174,6 +1230,45 @@ func TestGrownFiles(t *testing.T) {
 		once(t, p)
 	}
 	for _, key := range []int{9, 10, 12, 15, 17, 18, -1, -2} {
+		if met[key] < 300 {
+			t.Errorf("too few of %d: %d", key, met[key])
+		}
+	}
+}
+
+// P10.3, P10.4: grown files of packages that import their own names.
+func TestGrownOwnNames(t *testing.T) {
+	d := dice(13)
+	met := map[int]int{}
+	for range 8000 {
+		f, imports := d.file(), few(&d, 2, d.iface)
+		f.Imports = append(f.Imports, api.Import{Name: "a"})
+		own := d.iface()
+		own.Pkg = "a"
+		imports = slices.Insert(imports, d.below(len(imports)+1), own)
+		for i := range f.Decls {
+			for k := range f.Decls[i].Fields {
+				if x := &f.Decls[i].Fields[k].T; d.below(2) == 0 {
+					*x = xName(x.At, "a", d.of("T", "U", "I", "J"))
+				}
+			}
+			for k := range f.Decls[i].Bounds {
+				if x := &f.Decls[i].Bounds[k].T; d.below(2) == 0 {
+					*x = xName(x.At, "a", d.of("T", "U", "I", "J"))
+				}
+			}
+		}
+		p, wrong := against(t, f, imports)
+		for _, w := range wrong {
+			met[w.Code]++
+		}
+		for _, f := range p.Funcs {
+			for _, b := range f.Bounds {
+				met[-2] += b.Kind
+			}
+		}
+	}
+	for _, key := range []int{15, 18, -2} {
 		if met[key] < 300 {
 			t.Errorf("too few of %d: %d", key, met[key])
 		}
